@@ -1,0 +1,1 @@
+"""Slidewires: pictures of boxes and wires."""

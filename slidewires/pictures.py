@@ -1,0 +1,32 @@
+"""Pictures: feet above, and layers from the top down."""
+
+from slidewires.steps import fits, is_layer, wires_behind
+from slidewires.stocks import is_sort_row
+
+
+def is_picture(stock, thing):
+    if not isinstance(thing, tuple) or len(thing) != 2:
+        return False
+    if not is_sort_row(thing[0], stock[1]) or not isinstance(thing[1], tuple):
+        return False
+    wires = thing[0]
+    for layer in thing[1]:
+        if not is_layer(stock, layer) or not fits(stock, wires, layer):
+            return False
+        wires = wires_behind(stock, wires, layer)
+    return True
+
+
+def wires_at(stock, picture, at):
+    wires = picture[0]
+    for layer in picture[1][:at]:
+        wires = wires_behind(stock, wires, layer)
+    return wires
+
+
+def below_of(stock, picture):
+    return wires_at(stock, picture, len(picture[1]))
+
+
+def boxes_of(picture):
+    return tuple([step[1] for place, step in picture[1] if step[0] == "box"])
