@@ -8,8 +8,8 @@ import unittest
 
 PACKAGE = pathlib.Path(__file__).resolve().parent.parent / "slidewires"
 NODES = set(
-    "Module Import ImportFrom alias FunctionDef arguments arg Return ClassDef Assign Name Store Load Tuple List Dict Set"
-    " Constant If While For Break Continue Pass Raise Try ExceptHandler Expr Call keyword Attribute Subscript Slice"
+    "Module Import ImportFrom alias FunctionDef arguments arg Return ClassDef Assign Name Store Load Tuple List Dict"
+    " Set Constant If While For Break Continue Pass Raise Try ExceptHandler Expr Call keyword Attribute Subscript Slice"
     " BinOp Add Sub Mult FloorDiv Mod Pow BitAnd BitOr BitXor LShift RShift UnaryOp USub UAdd Not Invert BoolOp And Or"
     " Compare Eq NotEq Lt LtE Gt GtE In NotIn Is IsNot IfExp ListComp comprehension JoinedStr FormattedValue Lambda"
     " AugAssign".split()
@@ -20,9 +20,9 @@ OWN_NAMES = set(
     " ArithmeticError OverflowError RuntimeError NotImplementedError AttributeError StopIteration".split()
 )
 METHODS = set(
-    "append clear copy count endswith extend find get index insert isalnum isalpha isdigit islower isspace isupper items"
-    " join keys ljust lower lstrip partition pop remove replace reverse rfind rjust rpartition rsplit rstrip setdefault"
-    " split splitlines startswith strip update upper values zfill bit_length add discard".split()
+    "append clear copy count endswith extend find get index insert isalnum isalpha isdigit islower isspace isupper"
+    " items join keys ljust lower lstrip partition pop remove replace reverse rfind rjust rpartition rsplit rstrip"
+    " setdefault split splitlines startswith strip update upper values zfill bit_length add discard".split()
 )
 PYTHON_HAS = set().union(*(dir(kind) for kind in (str, int, list, dict, set, bytes, tuple)))
 SPECIAL = {"__init__", "__eq__", "__repr__", "__str__", "__len__"}
@@ -132,7 +132,8 @@ class Language(unittest.TestCase):
                 self.assertIsInstance(node.value, ast.Call, where)
             if isinstance(node, ast.Set) or called(node) in ("set", "frozenset"):
                 above = node.above
-                self.assertTrue(called(above) in ("len", "sorted") or isinstance(above, (ast.Compare, ast.BinOp)), where)
+                asked = isinstance(above, (ast.Compare, ast.BinOp))
+                self.assertTrue(asked or called(above) in ("len", "sorted"), where)
 
     def test_functions_and_classes(self):
         for where, node in self.nodes():

@@ -132,7 +132,10 @@ class IsPicture(unittest.TestCase):
         for stock, picture in SAMPLES:
             for thing in with_more(picture):
                 self.no(stock, thing)
-            for path in [()] + [(1, at) for at in range(len(picture[1]))] + [(1, at, 1) for at in range(len(picture[1]))]:
+            fixed = [()]
+            for at in range(len(picture[1])):
+                fixed += [(1, at), (1, at, 1)]
+            for path in fixed:
                 for thing in less_and_twice(picture, path):
                     self.no(stock, thing)
         self.no(BENT, one_layer(("a",), 0, ("cup",)))
