@@ -45,6 +45,10 @@ def lead_on(stock, strands, wires, layer, number):
         strands.bend_up(place, wires[place])
 
 
+def rings_of(graph, sort):
+    return sum([many for name, many in graph[4] if name == sort])
+
+
 def is_graph(stock, thing):
     if stock[0] == "braid" or not isinstance(thing, tuple) or len(thing) != 5:
         return False

@@ -1,6 +1,6 @@
 """Pictures: feet above, and layers from the top down."""
 
-from slidewires.steps import fits, is_layer, wires_behind
+from slidewires.steps import fits, given_many, is_layer, taken_many, wires_behind
 from slidewires.stocks import is_sort_row
 
 
@@ -22,6 +22,13 @@ def wires_at(stock, picture, at):
     for layer in picture[1][:at]:
         wires = wires_behind(stock, wires, layer)
     return wires
+
+
+def count_at(stock, picture, at):
+    many = len(picture[0])
+    for place, step in picture[1][:at]:
+        many = many - taken_many(stock, step) + given_many(stock, step)
+    return many
 
 
 def below_of(stock, picture):

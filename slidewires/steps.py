@@ -38,7 +38,7 @@ def is_layer(stock, thing):
 def fits(stock, wires, layer):
     place = layer[0]
     step = layer[1]
-    taken = wires[place:place + taken_by(stock, step)]
+    taken = wires[place:place + taken_many(stock, step)]
     if step[0] == "box":
         return place <= len(wires) and taken == feet_of(stock, step[1])[0]
     if step[0] == "cup":
@@ -50,12 +50,12 @@ def fits(stock, wires, layer):
 
 def wires_behind(stock, wires, layer):
     place = layer[0]
-    end = place + taken_by(stock, layer[1])
+    end = place + taken_many(stock, layer[1])
     given = given_by(stock, wires[place:end], layer[1])
     return wires[:place] + given + wires[end:]
 
 
-def taken_by(stock, step):
+def taken_many(stock, step):
     if step[0] == "box":
         return len(feet_of(stock, step[1])[0])
     return 0 if step[0] == "cup" else 2
@@ -69,3 +69,9 @@ def given_by(stock, taken, step):
     if step[0] == "cap":
         return ()
     return (taken[1], taken[0])
+
+
+def given_many(stock, step):
+    if step[0] == "box":
+        return len(feet_of(stock, step[1])[1])
+    return 0 if step[0] == "cap" else 2

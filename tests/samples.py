@@ -108,7 +108,8 @@ def all_steps(stock):
     """Steps of all manners, right ones or not in this stock."""
     steps = [("cross",), ("cap",), ("over",), ("under",)]
     steps += [("cup", sort) for sort in stock[1] + ("zz",)]
-    return steps + [("box", box[0]) for box in LOOSE[2]] + [("box", "zz")]
+    names = dict.fromkeys([box[0] for box in LOOSE[2] + stock[2]] + ["zz"])
+    return steps + [("box", name) for name in names]
 
 
 def behind_layer(stock, wires, place, step):

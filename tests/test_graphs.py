@@ -3,6 +3,7 @@ import itertools
 import random
 import unittest
 
+from oracles import down, gives, numbered_otherwise, sorts_of_feet, ties, up
 from samples import (
     BENT, BRAID, LOOSE, ODD, chance_picture, less_and_twice, put_at, same, with_lists, with_more, with_odd,
 )
@@ -10,18 +11,6 @@ from slidewires.feet import is_giver
 from slidewires.graphs import graph_of, is_graph
 from slidewires.pictures import wires_at
 from slidewires.picturetexts import read_picture
-
-
-def up(number, i):
-    return (number, "up", i)
-
-
-def down(number, i):
-    return (number, "down", i)
-
-
-def ties(*pairs):
-    return tuple(sorted(tuple(sorted(pair)) for pair in pairs))
 
 
 class Traced:
@@ -184,28 +173,6 @@ class GraphOf(unittest.TestCase):
         self.assertTrue(all(foot < other for foot, other in graph[3]))
         self.assertTrue(is_graph(turned, graph))
         self.assertFalse(is_graph(BENT, graph))
-
-
-def numbered_otherwise(graph, order):
-    """The same graph, its box number order[k] being number k + 1."""
-    numbers = {0: 0}
-    for k, old in enumerate(order):
-        numbers[old] = k + 1
-    tied = ties(*[tuple((numbers[number], side, i) for number, side, i in tie) for tie in graph[3]])
-    return (graph[0], graph[1], tuple(graph[2][old - 1] for old in order), tied, graph[4])
-
-
-def sorts_of_feet(stock, graph):
-    feet = {name: (above, below) for name, above, below in stock[2]}
-    found = {}
-    for number, (above, below) in enumerate([(graph[0], graph[1])] + [feet[name] for name in graph[2]]):
-        found.update({(number, "up", i): sort for i, sort in enumerate(above)})
-        found.update({(number, "down", i): sort for i, sort in enumerate(below)})
-    return found
-
-
-def gives(foot):
-    return foot[1] == ("up" if foot[0] == 0 else "down")
 
 
 def is_loose(graph):
