@@ -81,7 +81,7 @@ def is_way(stock, ones, others, thing):
         return False
     one = Ways(ones)
     other = Ways(others)
-    feet = sorts_of_feet(stock, ones[0], ones[1], ones[2])
+    feet = sorts_of_feet(stock, (), (), ones[2])
     here = one.far[thing[1]]
     there = other.far[thing[1]]
     for step in thing[2]:

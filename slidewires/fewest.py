@@ -1,7 +1,7 @@
 """Of all matchings of two graphs one with the fewest pairs of boxes that stand the other way about."""
 
 from slidewires.heaps import parts_of
-from slidewires.spelling import are_alike, heap_pairs
+from slidewires.spelling import are_alike, heap_pairs, matching_of
 
 
 def least_matching(stock, one, other):
@@ -13,7 +13,7 @@ def least_matching(stock, one, other):
     pairs = list(zip(ones.hung, others.hung)) + single_pairs(ones.heaps, others.heaps)
     search = Search([heap_pairs(heap, others.heaps) for heap in ones.heaps if len(heap.numbers) > 1])
     search.go_on(pairs, {}, turned_within(pairs))
-    return tuple([there for here, there in sorted(search.best)])
+    return matching_of(search.best)
 
 
 def single_pairs(ones, others):
@@ -37,19 +37,30 @@ class Search:
         self.least = 0
 
     def go_on(self, pairs, used, turned):
-        if self.best is not None and turned >= self.least:
+        waiting = [free_ways(choices, used) for choices in self.choices[len(used):]]
+        costs = [ways_costs(pairs, ways) for ways in waiting]
+        # Whatever the waiting heaps turn among themselves, beside the matched ones they turn no less than this.
+        if self.best is not None and turned + sum([min(some) for some in costs]) >= self.least:
             return
-        if len(used) == len(self.choices):
+        if waiting == []:
             self.best = pairs
             self.least = turned
             return
-        free = [choice for choice in self.choices[len(used)] if choice[0] not in used]
-        costs = [turned_within(more) + turned_between(pairs, more) for k, more in free]
         # The cheapest first: so a good one is found early, and more are cut off.
-        for k in sorted(range(len(free)), key=lambda place: costs[place]):
+        for place in sorted(range(len(costs[0])), key=lambda k: costs[0][k]):
+            way = waiting[0][place]
             then = dict(used)
-            then[free[k][0]] = True
-            self.go_on(pairs + list(free[k][1]), then, turned + costs[k])
+            then[way[0]] = True
+            self.go_on(pairs + list(way[1]), then, turned + costs[0][place])
+
+
+def free_ways(choices, used):
+    return [way for way in choices if way[0] not in used]
+
+
+def ways_costs(pairs, ways):
+    # How many pairs each way would turn: within its heap, and with the boxes that are matched.
+    return [turned_within(more) + turned_between(pairs, more) for heap, more in ways]
 
 
 def turned_within(pairs):

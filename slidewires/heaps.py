@@ -38,8 +38,8 @@ def parts_of(stock, graph):
 
 def heap_of(graph, numbers, far, feet):
     ties = tuple([tie for tie in graph[3] if tie[0][0] in numbers])
-    without_feet = ((), (), graph[2], ties, ())
+    alone = ((), (), graph[2], ties, ())
     orders = [come_to(start, far, feet) for start in numbers]
-    written = [numbered(without_feet, order) for order in orders]
+    written = [numbered(alone, order) for order in orders]
     least = min(written)
     return Heap(numbers, least, [order for order, one in zip(orders, written) if one == least])

@@ -38,14 +38,13 @@ def come_to(start, far, feet):
 
 
 def numbered(graph, order):
-    # The box order[k] gets the number k + 1; boxes that are not in the order go, with their ties.
+    # The box order[k] gets the number k + 1. The order holds all boxes that are tied.
     numbers = {0: 0}
     for k, old in enumerate(order, start=1):
         numbers[old] = k
     ties = []
     for foot, other in graph[3]:
-        if foot[0] in numbers and other[0] in numbers:
-            ties.append(tie_of((numbers[foot[0]],) + foot[1:], (numbers[other[0]],) + other[1:]))
+        ties.append(tie_of((numbers[foot[0]],) + foot[1:], (numbers[other[0]],) + other[1:]))
     names = tuple([graph[2][old - 1] for old in order])
     return (graph[0], graph[1], names, tuple(sorted(ties)), graph[4])
 

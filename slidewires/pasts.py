@@ -42,7 +42,7 @@ def unpast_change(stock, picture, at, side):
     wires = count_at(stock, picture, at)
     box = (moved[0] - 1 if side == "right" else moved[0] + 1, moved[1])
     # A box without feet leaves no crossings that would tell of the wire: so its room is looked at.
-    if not 0 <= box[0] <= wires - taken_many(stock, box[1]):
+    if not 0 <= box[0] <= wires:
         raise NoSlide("the box has no room there")
     made = past_of(stock, box, side, wires)
     if picture[1][at:at + len(made)] != made:

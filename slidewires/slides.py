@@ -58,8 +58,9 @@ def wires_change(stock, picture, slide):
     wires = wires_at(stock, picture, at)
     old = (wires, picture[1][at:end])
     new = (wires, slide[3])
-    if not is_picture(stock, new) or boxes_of(old) != () or boxes_of(new) != ():
-        raise NoSlide("the layers don't fit, or bear boxes")
+    if not is_picture(stock, new) or boxes_of(new) != ():
+        raise NoSlide("the new layers don't fit, or bear boxes")
+    # Old layers with boxes have another graph, too.
     if graph_of(stock, old) != graph_of(stock, new):
         raise NoSlide("the wires lead otherwise, or the rings are others")
     return (at, slide[2], slide[3])

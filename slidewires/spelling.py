@@ -29,7 +29,11 @@ def matchings(stock, one, other):
     rows = [((), tuple(zip(ones.hung, others.hung)))]
     for heap in ones.heaps:
         rows = rows_on(rows, heap_pairs(heap, others.heaps))
-    return tuple(sorted([tuple([there for here, there in sorted(pairs)]) for used, pairs in rows]))
+    return tuple(sorted([matching_of(pairs) for used, pairs in rows]))
+
+
+def matching_of(pairs):
+    return tuple([there for here, there in sorted(pairs)])
 
 
 def rows_on(rows, choices):

@@ -121,6 +121,16 @@ def chance_graph(stock, chance, most_boxes=5, most_feet=3):
     return (tuple(above), tuple(below), boxes, ties(*pairs), tuple(ring for ring in many if ring[1]))
 
 
+def tied_otherwise(stock, graph, chance):
+    """Two ties of one sort give way to two others."""
+    feet = sorts_of_feet(stock, graph)
+    pairs = [pair for pair in itertools.combinations(graph[3], 2) if feet[pair[0][0]] == feet[pair[1][0]]]
+    if not pairs:
+        return graph
+    (one, two), (three, four) = pair = chance.choice(pairs)
+    return graph[:3] + (ties((one, four), (three, two), *[tie for tie in graph[3] if tie not in pair]),) + graph[4:]
+
+
 # Slides
 
 def sizes(stock, step):
@@ -249,7 +259,8 @@ def chance_wires(stock, picture, chance):
     elif row and chance.randrange(2) and stock[0] == "bent":
         place = chance.randrange(len(row))
         new = chance.choice((
-            [(place + 1, ("cup", row[place])), (place, ("cap",))], [(place, ("cup", row[place])), (place + 1, ("cap",))],
+            [(place + 1, ("cup", row[place])), (place, ("cap",))],
+            [(place, ("cup", row[place])), (place + 1, ("cap",))],
         ))
     elif len(row) > 1:
         new = [(chance.randrange(len(row) - 1), ("cross",))] * 2

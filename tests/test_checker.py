@@ -1,11 +1,10 @@
 import copy
-import itertools
 import random
 import unittest
 
 from oracles import (
     all_matchings, chance_graph, down, fewest_turns, measures_apart, numbered_otherwise, slid_about, slid_anew,
-    sorts_of_feet, ties, up,
+    tied_otherwise, ties, up,
 )
 from samples import (
     BENT, LOOSE, ODD, chance_picture, less_and_twice, put_at, same, with_lists, with_more, with_odd,
@@ -88,7 +87,8 @@ class Papers(unittest.TestCase):
 
     def test_another_end(self):
         for chance, stock, one, other, paper in self.samples(40, 85):
-            ends = [one, (other[0] + ("a",), other[1]), (other[0], other[1] + ((0, ("box", "dot")),)), (other[0], other[1][:-1])]
+            ends = [one, (other[0] + ("a",), other[1]), (other[0], other[1] + ((0, ("box", "dot")),)),
+                    (other[0], other[1][:-1])]
             for end in ends + [chance_picture(stock, chance)[0]]:
                 if end != other:
                     self.assertIs(walks(stock, one, end, paper), False)
@@ -107,7 +107,7 @@ class Papers(unittest.TestCase):
             self.judged(BENT, one, other, thing)
         for thing in with_lists(paper):
             self.assertIs(walks(BENT, one, other, thing), False)
-        for thing in with_lists((("turn", 0, "left"),)) + ["", "turn", {}, [], None, 0, False]:
+        for thing in with_lists((("turn", 0, "left"),)) + ["", "turn", {}, [], None, 0, False, ((),), (((),),)]:
             self.assertIs(walks(BENT, one, one, thing), False)
             self.assertIs(has_fewest(BENT, one, one, thing), False)
 
@@ -131,7 +131,8 @@ class Papers(unittest.TestCase):
 
     def test_turns_of_two_boxes_alone_are_counted(self):
         one = read_picture(BENT, "a a b | 0 dot | 0 cross | 2 gone | 0 same | 1 cup a | 1 cap")
-        paper = (("turn", 0, "right"), ("turn", 1, "right"), ("turn", 2, "left"), ("past", 0, "right"), ("wires", 0, 0, ()))
+        paper = (("turn", 0, "right"), ("turn", 1, "right"), ("turn", 2, "left"), ("past", 0, "right"),
+                 ("wires", 0, 0, ()))
         for many in range(len(paper)):
             found = walked_anew(BENT, one, paper[:many])
             if found is not None:
@@ -157,7 +158,8 @@ class Papers(unittest.TestCase):
         one = read_picture(LOOSE, "- | 0 new | 0 new")
         other = read_picture(LOOSE, "- | 0 new | 1 new")
         self.assertEqual(self.judged(LOOSE, one, other, (("turn", 0, "left"),)), (True, True))
-        self.assertEqual(self.judged(LOOSE, one, other, (("turn", 0, "left"), ("turn", 0, "right"), ("turn", 0, "left"))),
+        self.assertEqual(self.judged(LOOSE, one, other, (("turn", 0, "left"), ("turn", 0, "right"),
+                                                         ("turn", 0, "left"))),
                          (True, False))
         self.assertEqual(self.judged(LOOSE, one, other, ()), (False, False))
 
@@ -194,19 +196,10 @@ def bubbled(stock, picture, chance, many):
     return None
 
 
-def tied_otherwise(graph, chance):
-    """Two ties of one sort give way to two others."""
-    feet = sorts_of_feet(BENT, graph)
-    pairs = [pair for pair in itertools.combinations(graph[3], 2) if feet[pair[0][0]] == feet[pair[1][0]]]
-    if not pairs:
-        return graph
-    (one, two), (three, four) = pair = chance.choice(pairs)
-    return graph[:3] + (ties((one, four), (three, two), *[tie for tie in graph[3] if tie not in pair]),) + graph[4:]
-
-
 MEASURED = {
     "way": ("a a b | 0 same | 1 f | 0 g", "a a b | 0 same | 0 cross | 1 f | 0 g"),
-    "deep": ("a | 0 g | 0 gone | 0 g | 0 gone | 0 g", "a | 0 g | 0 gone | 0 g | 0 gone | 0 new | 0 same | 0 cap | 0 new | 0 g"),
+    "deep": ("a | 0 g | 0 gone | 0 g | 0 gone | 0 g",
+             "a | 0 g | 0 gone | 0 g | 0 gone | 0 new | 0 same | 0 cap | 0 new | 0 g"),
     "rings": ("a | 0 cup a | 0 cap | 0 cup b | 0 cap", "a | 0 cup a | 0 cap | 0 cup a | 0 cap"),
     "heaps": ("a | 0 dot | 0 cup a | 0 same | 0 cap | 0 dot", "a | 0 dot | 0 cup a | 0 same | 0 cross | 0 cap"),
     "twice": ("- | 0 cup a | 0 same | 0 cap", "- | 0 cup a | 0 same | 0 cap | 0 cup a | 0 same | 0 cap"),
@@ -257,8 +250,10 @@ class Measures(unittest.TestCase):
 
     def test_as_written(self):
         one, other = (read_picture(BENT, text) for text in MEASURED["rings"])
-        for thing, expected in ((("rings", "a", 1, 2), True), (("rings", "b", 1, 0), True), (("rings", "a", 2, 1), False),
-                                (("rings", "a", 1, 1), False), (("rings", "b", 1, 1), False), (("rings", "b", 0, 1), False),
+        for thing, expected in ((("rings", "a", 1, 2), True), (("rings", "b", 1, 0), True),
+                                (("rings", "a", 2, 1), False),
+                                (("rings", "a", 1, 1), False), (("rings", "b", 1, 1), False),
+                                (("rings", "b", 0, 1), False),
                                 (("rings", "zz", 0, 1), False), (("rings", "zz", 0, 0), False), (("feet",), False)):
             self.assertIs(is_measure(BENT, one, other, thing), expected, thing)
         one, other = read_picture(BENT, "a a"), read_picture(BENT, "a a | 0 cross")
@@ -283,7 +278,7 @@ class Measures(unittest.TestCase):
         told = {}
         for _ in range(150):
             graph = chance_graph(BENT, chance, 3, 2)
-            others = [tied_otherwise(graph, chance), graph[:4] + ((),), chance_graph(BENT, chance)]
+            others = [tied_otherwise(BENT, graph, chance), graph[:4] + ((),), chance_graph(BENT, chance)]
             others.append(put_at(graph, (2,), graph[2] + ("dot",)))
             for other in others:
                 true_ones = self.apart(BENT, drawn(BENT, graph), drawn(BENT, other), 3)
@@ -310,23 +305,26 @@ class Measures(unittest.TestCase):
             self.assertTrue(lengths <= {len(measure[2]) for measure in true_ones})
             for measure in true_ones[:12]:
                 start, steps, here, there = measure[1:]
-                things = [put_at(measure, (1,), foot) for foot in (up(0, 1), up(0, 9), up(1, 0), down(0, -1), (0, "left", 0))]
+                things = [put_at(measure, (1,), foot) for foot in (up(0, 1), up(0, 9), up(1, 0), down(0, -1),
+                                                                   (0, "left", 0))]
                 things += [put_at(measure, (1, 0), number) for number in (1, -1, False, "0")]
-                things += [put_at(measure, (2,), steps + (step,)) for step in (("up", 0), ("down", 1), ("up", 7), ("in", 0))]
-                things += [put_at(measure, (2,), thing) for path in [(2,)] for thing in
-                           [part[2] for part in less_and_twice(measure, path)]]
+                things += [put_at(measure, (2,), steps + (step,))
+                           for step in (("up", 0), ("down", 1), ("up", 7), ("in", 0))]
+                things += less_and_twice(measure, (2,))
                 things += [put_at(measure, (3,), there), put_at(measure, (4,), here), measure[:3] + (there, here)]
                 things += [put_at(measure, (end, 2), number) for end in (3, 4) for number in (0, 1, 2, -1, True, False)]
                 things += [put_at(measure, (end, 0), word) for end in (3, 4) for word in ("", "f", "zz", None, 0)]
                 for k in range(len(steps)):
-                    things += [put_at(measure, (2, k), step) for step in (("up", 0), ("down", 0), ("up", -1), ("up", True),
+                    things += [put_at(measure, (2, k), step) for step in (("up", 0), ("down", 0), ("up", -1),
+                                                                          ("up", True),
                                                                           ("up", 0, 0), ("up",), up(1, 0), "up", None)]
                 for thing in things:
                     self.judged(BENT, one, other, thing, true_ones)
 
     def test_a_way_may_not_go_on_from_the_picture_or_where_they_part(self):
         one, other = read_picture(BENT, "a b | 0 f | 0 g"), read_picture(BENT, "a b | 0 f | 0 g | 0 cross | 0 cross")
-        self.assertIs(is_measure(BENT, one, other, ("way", up(0, 0), (("down", 0),), ("g", "up", 0), ("g", "up", 0))), False)
+        self.assertIs(is_measure(BENT, one, other, ("way", up(0, 0), (("down", 0),), ("g", "up", 0), ("g", "up", 0))),
+                      False)
         one, other = read_picture(BENT, "a a | 0 same"), read_picture(BENT, "a a | 0 same | 0 cross")
         start = up(0, 0)
         first = ("way", start, (("down", 0),), ("", "down", 0), ("", "down", 1))
@@ -337,7 +335,8 @@ class Measures(unittest.TestCase):
         self.assertIs(is_measure(BENT, one, other, ("way", start, (("up", 0),), ("", "up", 0), ("", "up", 1))), False)
 
     def test_heaps_put_otherwise(self):
-        one, other = read_picture(BENT, "a | 0 dot"), read_picture(BENT, "a | 0 cup a | 0 cap | 0 cup a | 0 same | 0 cap")
+        one, other = read_picture(BENT, "a | 0 dot"), read_picture(BENT,
+                                                                   "a | 0 cup a | 0 cap | 0 cup a | 0 same | 0 cap")
         looped = ((), (), ("same",), ties((up(1, 0), up(1, 1)), (down(1, 0), down(1, 1))), ())
         dot = ((), (), ("dot",), (), ())
         self.assertEqual({measure[0] for measure in self.apart(BENT, one, other)}, {"rings", "heaps"})

@@ -149,7 +149,8 @@ class Plain(unittest.TestCase):
             self.assertEqual(len(forms), 1)
 
     def test_unlike_ones_have_unlike_forms(self):
-        texts = ("-", "- | 0 dot", "- | 0 dot | 0 dot", "- | 0 cup a | 0 cap", "- | 0 cup b | 0 cap", "a a", "a a | 0 cross",
+        texts = ("-", "- | 0 dot", "- | 0 dot | 0 dot", "- | 0 cup a | 0 cap", "- | 0 cup b | 0 cap", "a a",
+                 "a a | 0 cross",
                  "a a | 0 cap | 0 cup a", "a a | 0 same", "a a | 0 same | 0 cross", "a a | 0 cross | 0 same", "a b",
                  "- | 0 cup a | 0 same | 0 cap", "- | 0 new | 0 new | 0 cap", "- | 0 cup a")
         forms = [self.check(BENT, read_picture(BENT, text)) for text in texts]

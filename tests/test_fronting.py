@@ -48,7 +48,8 @@ class Fronted(unittest.TestCase):
             self.assertTrue(same(self.check(LOOSE, picture), picture))
 
     def test_wires_about_the_boxes(self):
-        self.texts(BENT, "a | 1 cup a | 1 same | 1 cap", "b b | 1 cup a | 1 g | 2 cap | 1 gone", "a | 1 new | 0 cup b | 2 cross")
+        self.texts(BENT, "a | 1 cup a | 1 same | 1 cap", "b b | 1 cup a | 1 g | 2 cap | 1 gone",
+                   "a | 1 new | 0 cup b | 2 cross")
 
     def test_by_chance(self):
         chance = random.Random(101)
@@ -69,5 +70,6 @@ class Fronted(unittest.TestCase):
                     done += 1
                     greatest = max(greatest, boxes)
         self.assertEqual(greatest, 8)
-        layers = tuple((place, step) for k in range(8) for place, step in ((6 - k % 3, ("box", "same")), (k % 7, ("cross",))))
+        layers = tuple((place, step) for k in range(8) for place,
+                       step in ((6 - k % 3, ("box", "same")), (k % 7, ("cross",))))
         self.check(LOOSE, (("a",) * 8, layers + ((0, ("cross",)),) * 29))

@@ -212,7 +212,8 @@ class Slid(Slides):
                    "a | 1 cup a | 1 cap")
         self.texts(BENT, "a | 0 cup a | 0 cap", ("wires", 0, 2, ((1, ("cup", "b")), (1, ("cap",)))))
         self.texts(BENT, "a | 0 cup a | 0 cap", ("wires", 0, 2, ring + ring))
-        self.texts(BENT, "- | 0 cup a | 0 cap | 0 cup b | 0 cap", ("wires", 0, 4, ((0, ("cup", "b")), (0, ("cap",))) + ring),
+        self.texts(BENT, "- | 0 cup a | 0 cap | 0 cup b | 0 cap",
+                   ("wires", 0, 4, ((0, ("cup", "b")), (0, ("cap",))) + ring),
                    "- | 0 cup b | 0 cap | 0 cup a | 0 cap")
 
     def test_wires_with_boxes(self):
@@ -263,7 +264,7 @@ class Anything(Slides):
     def test_odd_things(self):
         for picture, slide in self.right_slides():
             self.assertTrue(self.judged(BENT, picture, slide))
-            for thing in ODD:
+            for thing in ODD + ((),):
                 self.refused(BENT, picture, thing)
             for thing in with_odd(slide):
                 self.judged(BENT, picture, thing)
@@ -295,7 +296,8 @@ class Anything(Slides):
 
     def test_other_kinds_and_sides(self):
         for picture, slide in self.right_slides():
-            for kind in ("", "Turn", "turn ", "pass", "pair", "twine", "three", "box", "cross", 0, None, True, ("turn",)):
+            for kind in ("", "Turn", "turn ", "pass", "pair", "twine", "three", "box", "cross", 0, None, True,
+                         ("turn",)):
                 self.refused(BENT, picture, (kind,) + slide[1:])
             for side in ("", "Left", "up", "down", "left ", 0, None, True, ("left",), ["right"], "leftright"):
                 self.judged(BENT, picture, slide[:2] + (side,) + slide[3:])
@@ -320,7 +322,8 @@ class Anything(Slides):
 
     def test_layers_that_are_none(self):
         picture = read_picture(BENT, "a a")
-        for step in (("over",), ("under",), ("cross", "a"), ("cup",), ("cup", "zz"), ("cap", "a"), ("box", "zz"), ("box",),
+        for step in (("over",), ("under",), ("cross", "a"), ("cup",), ("cup", "zz"), ("cap", "a"), ("box", "zz"),
+                     ("box",),
                      "cross", (), None, ["cross"], ("cross", None)):
             for place in (0, 1):
                 self.refused(BENT, picture, ("wires", 0, 0, ((place, step), (place, step))))
