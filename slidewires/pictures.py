@@ -1,5 +1,6 @@
 """Pictures: feet above, and layers from the top down."""
 
+from slidewires.names import is_whole
 from slidewires.steps import fits, given_many, is_layer, taken_many, wires_behind
 from slidewires.stocks import is_sort_row
 
@@ -37,3 +38,12 @@ def below_of(stock, picture):
 
 def boxes_of(picture):
     return tuple([step[1] for place, step in picture[1] if step[0] == "box"])
+
+
+def has_layer(picture, thing):
+    return is_whole(thing) and 0 <= thing < len(picture[1])
+
+
+def with_layers(picture, at, many, layers):
+    # From at on so many layers give way to these.
+    return (picture[0], picture[1][:at] + layers + picture[1][at + many:])

@@ -4,17 +4,15 @@ from slidewires.errors import NoSlide
 from slidewires.graphs import graph_of
 from slidewires.names import is_whole
 from slidewires.pasts import past_change, unpast_change
-from slidewires.pictures import boxes_of, is_picture, wires_at
-from slidewires.turning import turn_change
+from slidewires.pictures import boxes_of, has_layer, is_picture, wires_at, with_layers
+from slidewires.turning import BACK_SIDE, turn_change
 
 SIDED = ("turn", "past", "unpast")
-BACK_SIDE = {"left": "right", "right": "left"}
 
 
 def slid(stock, picture, slide):
     change = change_by(stock, picture, slide)
-    layers = picture[1]
-    return (picture[0], layers[:change[0]] + change[2] + layers[change[0] + change[1]:])
+    return with_layers(picture, change[0], change[1], change[2])
 
 
 def back_slide(stock, picture, slide):
@@ -37,7 +35,7 @@ def change_by(stock, picture, slide):
         return wires_change(stock, picture, slide)
     if slide[0] not in SIDED or len(slide) != 3:
         raise NoSlide("there is no such kind of slide")
-    if not is_whole(slide[1]) or not 0 <= slide[1] < len(picture[1]):
+    if not has_layer(picture, slide[1]):
         raise NoSlide("there is no such layer")
     if slide[2] not in ("left", "right"):
         raise NoSlide("there is no such side")

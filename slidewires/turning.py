@@ -3,6 +3,8 @@
 from slidewires.errors import NoSlide
 from slidewires.steps import given_many, taken_many
 
+BACK_SIDE = {"left": "right", "right": "left"}
+
 
 def turn_change(stock, picture, at, side):
     if at + 1 == len(picture[1]):

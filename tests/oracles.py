@@ -326,3 +326,254 @@ def measures_apart(stock, one, other, most, spell):
         if here.count(heap) != there.count(heap):
             found.append(("heaps", heap, here.count(heap), there.count(heap)))
     return found
+
+
+# Braids
+
+def braid_text(text):
+    """A braid of the sort a by crossings: "3: 0o 1u" has three wires, over at 0, under at 1."""
+    wires, _, words = text.partition(":")
+    steps = {"o": ("over",), "u": ("under",)}
+    return (("a",) * int(wires), tuple((int(word[:-1]), steps[word[-1]]) for word in words.split()))
+
+
+def chance_braid(stock, chance, most_layers=20, wires=None):
+    above = tuple(chance.choice(stock[1]) for _ in range(chance.randrange(10) if wires is None else wires))
+    many = chance.randrange(most_layers + 1) if len(above) > 1 else 0
+    steps = (("over",), ("under",))
+    return (above, tuple((chance.randrange(len(above) - 1), chance.choice(steps)) for _ in range(many)))
+
+
+def reduced(letters):
+    """Neighbours that are opposites go out, the leftmost first, till none are left."""
+    letters = list(letters)
+    at = 0
+    while at < len(letters) - 1:
+        if letters[at] == -letters[at + 1]:
+            del letters[at:at + 2]
+            at = max(at - 1, 0)
+        else:
+            at += 1
+    return tuple(letters)
+
+
+def words_anew(picture):
+    words = [(i + 1,) for i in range(len(picture[0]))]
+    for place, step in picture[1]:
+        u, v = words[place:place + 2]
+        if step[0] == "over":
+            words[place:place + 2] = [reduced(u + v + tuple(-x for x in u[::-1])), u]
+        else:
+            words[place:place + 2] = [v, reduced(tuple(-x for x in v[::-1]) + u + v)]
+    return tuple(words)
+
+
+def braid_slid_anew(picture, slide):
+    """The braid behind the slide, or None where it is none."""
+    above, layers = picture
+    if type(slide) is not tuple or len(slide) < 2 or not is_number(slide[1]) or not 0 <= slide[1] <= len(layers):
+        return None
+    at, rest = slide[1], slide[2:]
+    ahead, here = layers[:at], layers[at:]
+    if slide[0] == "turn" and len(rest) == 1 and len(here) > 1:
+        (place, step), (then, other) = here[:2]
+        if rest[0] == ("left" if then < place else "right") and abs(then - place) > 1:
+            return (above, ahead + (here[1], here[0]) + here[2:])
+    if slide[0] == "pair" and not rest and len(here) > 1:
+        if here[0][0] == here[1][0] and {here[0][1][0], here[1][1][0]} == {"over", "under"}:
+            return (above, ahead + here[2:])
+    if slide[0] == "twine" and len(rest) == 2 and is_number(rest[0]) and 0 <= rest[0] < len(above) - 1:
+        words = {"over": ("over", "under"), "under": ("under", "over")}
+        if isinstance(rest[1], str) and rest[1] in words:
+            return (above, ahead + tuple((rest[0], (word,)) for word in words[rest[1]]) + here)
+    if slide[0] == "three" and not rest and len(here) > 2:
+        (p, x), (q, y), (r, z) = here[:3]
+        if p == r and q in (p - 1, p + 1) and (x, y, z) not in (
+            (("over",), ("under",), ("over",)), (("under",), ("over",), ("under",)),
+        ):
+            return (above, ahead + ((q, z), (p, y), (q, x)) + here[3:])
+    return None
+
+
+def braid_slides(picture, twines=True):
+    """Slides at each layer, right ones or not."""
+    found = []
+    for at in range(len(picture[1]) + 1):
+        found += [("pair", at), ("three", at), ("turn", at, "left"), ("turn", at, "right")]
+        if twines:
+            found += [("twine", at, place, word) for place in range(len(picture[0])) for word in ("over", "under")]
+    return found
+
+
+def braid_slid_about(picture, chance, many=8, most_layers=20, twines=True):
+    paper = []
+    for _ in range(many):
+        then = [(slide, braid_slid_anew(picture, slide)) for slide in braid_slides(picture, twines)]
+        then = [(slide, new) for slide, new in then if new is not None and len(new[1]) <= most_layers]
+        if then:
+            kind = chance.choice(sorted({slide[0] for slide, new in then}))
+            slide, picture = chance.choice([(slide, new) for slide, new in then if slide[0] == kind])
+            paper.append(slide)
+    return picture, tuple(paper)
+
+
+# Readings
+
+def product(numbers):
+    many = 1
+    for number in numbers:
+        many *= number
+    return many
+
+
+def worths_anew(stock, sizes, sorts):
+    of = dict(zip(stock[1], sizes))
+    return list(itertools.product(*[range(of[sort]) for sort in sorts]))
+
+
+def widths(stock, sizes, picture):
+    """How many tuples of worths there are ahead of each layer and at the end."""
+    return [len(worths_anew(stock, sizes, row)) for row in rows_of(stock, picture)]
+
+
+def chance_sizes(stock, chance):
+    return tuple(chance.randrange(1, 4) for _ in stock[1])
+
+
+def chance_tables(stock, sizes, chance, most=3):
+    def table(box):
+        across = range(len(worths_anew(stock, sizes, box[2])))
+        down_there = range(len(worths_anew(stock, sizes, box[1])))
+        return tuple(tuple(chance.randrange(-most, most + 1) for _ in across) for _ in down_there)
+    return (sizes, tuple(table(box) for box in stock[2]))
+
+
+def chance_relations(stock, sizes, chance):
+    def relation(box):
+        pairs = itertools.product(worths_anew(stock, sizes, box[1]), worths_anew(stock, sizes, box[2]))
+        share = chance.choice((0, 1, 2, 3, 4))
+        return tuple(pair for pair in pairs if chance.randrange(4) < share)
+    return (sizes, tuple(relation(box) for box in stock[2]))
+
+
+def all_worths(stock, sizes, graph):
+    """Each choice of worths on all ties, as a dict from feet to worths."""
+    of = dict(zip(stock[1], sizes))
+    feet = sorts_of_feet(stock, graph)
+    for chosen in itertools.product(*[range(of[feet[foot]]) for foot, other in graph[3]]):
+        worth = {}
+        for (foot, other), one in zip(graph[3], chosen):
+            worth[foot] = worth[other] = one
+        yield worth
+
+
+def worths_of_box(worth, number, above, below):
+    return (tuple(worth[up(number, i)] for i in range(len(above))),
+            tuple(worth[down(number, i)] for i in range(len(below))))
+
+
+def table_anew(stock, filling, graph):
+    """The sum over all worths on all ties at once, of the graph: however the wires are laid."""
+    sizes, tables = filling
+    of = dict(zip(stock[1], sizes))
+    boxes = {box[0]: (box[1], box[2], table) for box, table in zip(stock[2], tables)}
+    rings = product(of[sort] ** many for sort, many in graph[4])
+    told = {}
+    for worth in all_worths(stock, sizes, graph):
+        number = rings
+        for k, name in enumerate(graph[2], start=1):
+            above, below, table = boxes[name]
+            ups, downs = worths_of_box(worth, k, above, below)
+            row = worths_anew(stock, sizes, above).index(ups)
+            number *= table[row][worths_anew(stock, sizes, below).index(downs)]
+        pair = worths_of_box(worth, 0, graph[0], graph[1])
+        told[pair] = told.get(pair, 0) + number
+    return tuple(
+        tuple(told.get((ups, downs), 0) for downs in worths_anew(stock, sizes, graph[1]))
+        for ups in worths_anew(stock, sizes, graph[0])
+    )
+
+
+def relation_anew(stock, filling, graph):
+    sizes, relations = filling
+    boxes = {box[0]: (box[1], box[2], relation) for box, relation in zip(stock[2], relations)}
+    told = set()
+    for worth in all_worths(stock, sizes, graph):
+        if all(worths_of_box(worth, k, *boxes[name][:2]) in boxes[name][2] for k, name in enumerate(graph[2], 1)):
+            told.add(worths_of_box(worth, 0, graph[0], graph[1]))
+    return tuple(sorted(told))
+
+
+# Expressions
+
+def parts_many(expression):
+    if expression[0] in ("in", "num"):
+        return 1
+    return 1 + sum(parts_many(part) for part in expression[1:])
+
+
+def run_anew(expression, numbers):
+    kind = expression[0]
+    if kind == "in":
+        return numbers[expression[1]]
+    if kind == "num":
+        return expression[1]
+    one, other = (run_anew(part, numbers) for part in expression[1:3])
+    if kind == "pick":
+        return other if one != 0 else run_anew(expression[3], numbers)
+    return {"add": lambda: one + other, "mul": lambda: one * other, "less": lambda: int(one < other)}[kind]()
+
+
+def put_in_anew(expression, brought):
+    if expression[0] == "in":
+        return brought[expression[1]]
+    if expression[0] == "num":
+        return expression
+    return expression[:1] + tuple(put_in_anew(part, brought) for part in expression[1:])
+
+
+def chance_expression(chance, feet, most):
+    kinds = ["in"] * bool(feet) + ["num"]
+    if most >= 3:
+        kinds += ["add", "mul", "less"]
+    if most >= 4:
+        kinds += ["pick"]
+    kind = chance.choice(kinds)
+    if kind == "in":
+        return ("in", chance.randrange(feet))
+    if kind == "num":
+        return ("num", chance.choice((0, 1, -1, 2, -7, 10**9, -(10**10) + 1)))
+    many = 3 if kind == "pick" else 2
+    return (kind,) + tuple(chance_expression(chance, feet, (most - 1) // many) for _ in range(many))
+
+
+def chance_program(stock, chance, most=30):
+    return tuple(
+        tuple(chance_expression(chance, len(box[1]), chance.randrange(1, most + 1)) for _ in box[2])
+        for box in stock[2]
+    )
+
+
+def picture_run(stock, filling, picture, numbers):
+    """Numbers led down through the layers."""
+    row = list(numbers)
+    boxes = {box[0]: (len(box[1]), expressions) for box, expressions in zip(stock[2], filling)}
+    for place, step in picture[1]:
+        takes, expressions = (2, (("in", 1), ("in", 0))) if step[0] == "cross" else boxes[step[1]]
+        taken = row[place:place + takes]
+        row[place:place + takes] = [run_anew(expression, taken) for expression in expressions]
+    return tuple(row)
+
+
+def program_anew(stock, filling, picture):
+    """(expressions, None), or (None, how many parts) of the first that is too wide."""
+    row = [("in", i) for i in range(len(picture[0]))]
+    boxes = {box[0]: (len(box[1]), expressions) for box, expressions in zip(stock[2], filling)}
+    for place, step in picture[1]:
+        takes, expressions = (2, (("in", 1), ("in", 0))) if step[0] == "cross" else boxes[step[1]]
+        given = [put_in_anew(expression, row[place:place + takes]) for expression in expressions]
+        for expression in given:
+            if parts_many(expression) > 500:
+                return None, parts_many(expression)
+        row[place:place + takes] = given
+    return tuple(row), None

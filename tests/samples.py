@@ -136,8 +136,10 @@ def behind_layer(stock, wires, place, step):
     return tuple(left)
 
 
-def chance_picture(stock, chance, most_layers=12, most_wires=8):
-    wires = above = tuple(chance.choice(stock[1]) for _ in range(chance.randrange(6)))
+def chance_picture(stock, chance, most_layers=12, most_wires=8, above=None):
+    if above is None:
+        above = tuple(chance.choice(stock[1]) for _ in range(chance.randrange(6)))
+    wires = above
     layers = []
     for _ in range(chance.randrange(most_layers + 1)):
         fitting = []
@@ -151,3 +153,13 @@ def chance_picture(stock, chance, most_layers=12, most_wires=8):
             place, step, wires = chance.choice([found for found in fitting if found[1][0] == kind])
             layers.append((place, step))
     return (above, tuple(layers)), wires
+
+
+def chance_inner(stock, chance, above, below, tries=40):
+    """A picture with just these feet of a box; where none comes up, the box itself with a dot ahead."""
+    for _ in range(tries):
+        picture, wires = chance_picture(stock, chance, most_layers=6, most_wires=4, above=above)
+        if wires == below:
+            return picture
+    names = [box[0] for box in stock[2] if box[1:] == (above, below)]
+    return (above, ((0, ("box", "dot")), (0, ("box", chance.choice(names)))))
