@@ -189,6 +189,7 @@ class Anything(BraidSlides):
                 self.refused(picture, (kind,) + slide[1:])
         for side in ("", "Left", "up", 0, None, True, ("right",), ["right"], {}, "leftright"):
             self.refused(picture, ("turn", 0, side))
+            self.refused(braid_text("4: 2o 0o"), ("turn", 0, side))
         for slide in (("past", 0, "left"), ("unpast", 0, "left"), ("wires", 0, 0, ()), ("wires", 0, 1, ())):
             self.refused(picture, slide)
 
