@@ -19,11 +19,15 @@ def graph_of(stock, picture):
         lead_on(stock, strands, wires, layer, number)
         wires = wires_behind(stock, wires, layer)
     strands.take(0, row_of_feet(0, "down", wires))
-    boxes = boxes_of(picture)
-    feet = sorts_of_feet(stock, picture[0], wires, boxes)
+    return graph_by(stock, strands, picture[0], wires, boxes_of(picture))
+
+
+def graph_by(stock, strands, above, below, boxes):
+    # All feet of the graph are tied by the strands.
+    feet = sorts_of_feet(stock, above, below, boxes)
     ties = sorted([(foot, strands.far[foot]) for foot in feet if foot < strands.far[foot]])
     rings = [(sort, strands.rings[sort]) for sort in stock[1] if sort in strands.rings]
-    return (picture[0], wires, boxes, tuple(ties), tuple(rings))
+    return (above, below, boxes, tuple(ties), tuple(rings))
 
 
 def row_of_feet(number, side, sorts):

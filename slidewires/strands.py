@@ -44,10 +44,14 @@ class Strands:
         self.put_row(place, 0, [one, other])
 
     def bend_up(self, place, sort):
-        one = self.row[place]
-        other = self.row[place + 1]
+        self.join_ends(self.row[place], self.row[place + 1], sort)
+        self.put_row(place, 2, [])
+
+    def join_ends(self, one, other, sort):
         if self.far[one] == other:
-            self.rings[sort] = self.rings.get(sort, 0) + 1
+            self.add_rings(sort, 1)
         else:
             self.tie(self.far[one], self.far[other])
-        self.put_row(place, 2, [])
+
+    def add_rings(self, sort, many):
+        self.rings[sort] = self.rings.get(sort, 0) + many

@@ -577,3 +577,200 @@ def program_anew(stock, filling, picture):
                 return None, parts_many(expression)
         row[place:place + takes] = given
     return tuple(row), None
+
+
+# Rules
+
+def paired(stock, feet, chance):
+    """Ties by chance of all these feet, a dict to sorts; None where a sort has an odd number of them."""
+    pairs = []
+    for sort in stock[1]:
+        some = [foot for foot in feet if feet[foot] == sort]
+        if len(some) % 2:
+            return None
+        chance.shuffle(some)
+        pairs += zip(some[::2], some[1::2])
+    return pairs
+
+
+def together(many, pairs):
+    """Whether boxes 1 to many hang together by these ties of boxes' feet."""
+    seen = {1}
+    for _ in range(many):
+        for foot, other in pairs:
+            if 0 not in (foot[0], other[0]) and {foot[0], other[0]} & seen:
+                seen |= {foot[0], other[0]}
+    return len(seen) == many
+
+
+def chance_left(stock, chance, most=3):
+    """A piece that hangs together: feet that aren't tied to one another are tied to feet of its own."""
+    while True:
+        boxes = tuple(chance.choice(stock[2])[0] for _ in range(chance.randrange(1, most + 1)))
+        feet = sorts_of_feet(stock, ((), (), boxes))
+        pairs = []
+        for sort in stock[1]:
+            some = [foot for foot in feet if feet[foot] == sort]
+            chance.shuffle(some)
+            pairs += zip(some[::2], some[1::2])
+        pairs = chance.sample(pairs, chance.randrange(len(pairs) + 1))
+        if together(len(boxes), pairs):
+            break
+    above, below = [], []
+    for foot in feet:
+        if foot not in itertools.chain(*pairs):
+            row, own = chance.choice(((above, up), (below, down)))
+            pairs.append((own(0, len(row)), foot))
+            row.append(feet[foot])
+    return (tuple(above), tuple(below), boxes, ties(*pairs), ())
+
+
+def chance_rule(stock, chance, most=3):
+    while True:
+        left = chance_left(stock, chance, most)
+        for _ in range(20):
+            boxes = tuple(chance.choice(stock[2])[0] for _ in range(chance.randrange(len(left[2]))))
+            pairs = paired(stock, sorts_of_feet(stock, left[:2] + (boxes,)), chance)
+            if pairs is not None:
+                rings = [(sort, chance.choice((0, 0, 1, 2))) for sort in stock[1]]
+                return (left, left[:2] + (boxes, ties(*pairs), tuple(ring for ring in rings if ring[1])))
+
+
+def chance_place(stock, chance, lefts, more=2):
+    """A graph that holds these lefts, among other boxes, numbered by chance, and tied to them by chance."""
+    while True:
+        boxes, pairs = [], []
+        for left in lefts:
+            by = len(boxes)
+            boxes += left[2]
+            pairs += [tuple((foot[0] + by,) + foot[1:] for foot in tie) for tie in left[3] if tie[0][0] != 0]
+        boxes += [chance.choice(stock[2])[0] for _ in range(chance.randrange(more + 1))]
+        above, below = (tuple(chance.choice(stock[1]) for _ in range(chance.randrange(4))) for _ in range(2))
+        feet = sorts_of_feet(stock, (above, below, tuple(boxes)))
+        for foot in itertools.chain(*pairs):
+            del feet[foot]
+        rest = paired(stock, feet, chance)
+        if rest is not None:
+            rings = [(sort, chance.choice((0, 0, 1))) for sort in stock[1]]
+            graph = (above, below, tuple(boxes), ties(*pairs, *rest), tuple(ring for ring in rings if ring[1]))
+            order = list(range(1, len(boxes) + 1))
+            chance.shuffle(order)
+            return numbered_otherwise(graph, order)
+
+
+def is_find_anew(graph, left, find):
+    if type(find) is not tuple or len(find) != len(left[2]) or not all(is_number(number) for number in find):
+        return False
+    if len(set(find)) != len(find) or not all(1 <= number <= len(graph[2]) for number in find):
+        return False
+    if any(graph[2][number - 1] != name for number, name in zip(find, left[2])):
+        return False
+    inner = [tie for tie in left[3] if tie[0][0] != 0 and tie[1][0] != 0]
+    return all(
+        tuple(sorted((find[number - 1], side, i) for number, side, i in tie)) in graph[3] for tie in inner
+    )
+
+
+def finds_anew(graph, left):
+    every = itertools.permutations(range(1, len(graph[2]) + 1), len(left[2]))
+    return tuple(find for find in every if is_find_anew(graph, left, find))
+
+
+def done_anew(stock, graph, rule, find):
+    """Each wire is followed, from each foot that stays and from each foot of the rule's own."""
+    left, right = rule
+    stay = [number for number in range(1, len(graph[2]) + 1) if number not in find]
+    numbers = {number: k for k, number in enumerate([0] + stay)}
+
+    def go_in(foot):
+        """From a foot of a found box on: the foot of right that is come to."""
+        return led_to(right, led_to(left, (find.index(foot[0]) + 1,) + foot[1:]))
+
+    def go_out(own):
+        """From a foot of the rule's own on: the foot of the graph that is come to."""
+        inner = led_to(left, own)
+        return led_to(graph, (find[inner[0] - 1],) + inner[1:])
+
+    def follow(foot, within, seen):
+        """Till a foot that stays is come to; None where the wire comes into itself."""
+        while True:
+            if within and foot[0] != 0:
+                return (len(stay) + foot[0],) + foot[1:]
+            if not within and foot[0] not in find:
+                return (numbers[foot[0]],) + foot[1:]
+            if within and foot in seen:
+                return None
+            if within:
+                seen.append(foot)
+            foot = go_out(foot) if within else go_in(foot)
+            within = not within
+
+    above, below, boxes = graph[0], graph[1], tuple(graph[2][number - 1] for number in stay) + right[2]
+    pairs = set()
+    for foot in sorts_of_feet(stock, graph):
+        if foot[0] not in find:
+            here = (numbers[foot[0]],) + foot[1:]
+            pairs.add(tuple(sorted((here, follow(led_to(graph, foot), False, [])))))
+    for foot in sorts_of_feet(stock, right):
+        if foot[0] != 0:
+            here = (len(stay) + foot[0],) + foot[1:]
+            pairs.add(tuple(sorted((here, follow(led_to(right, foot), True, [])))))
+    rings = {sort: dict(graph[4]).get(sort, 0) + dict(right[4]).get(sort, 0) for sort in stock[1]}
+    # A foot of the rule's own from which no foot that stays is come to lies on a ring: it, and the others there, once.
+    own = {foot: sort for foot, sort in sorts_of_feet(stock, left).items() if foot[0] == 0}
+    on_rings = [foot for foot in own if follow(foot, True, []) is None]
+    while on_rings:
+        seen = []
+        follow(on_rings[0], True, seen)
+        rings[own[on_rings[0]]] += 1
+        there = seen + [led_to(right, foot) for foot in seen]
+        on_rings = [foot for foot in on_rings if foot not in there]
+    return (above, below, boxes, tuple(sorted(pairs)), tuple((sort, rings[sort]) for sort in stock[1] if rings[sort]))
+
+
+def meetings_anew(stock, rules):
+    """All that the document calls so, by going through all tuples that might be one."""
+    found = []
+    for i, j in itertools.combinations_with_replacement(range(len(rules)), 2):
+        one, other = rules[i][0], rules[j][0]
+        many = len(one[2])
+        for find in itertools.permutations(range(1, many + len(other[2]) + 1), len(other[2])):
+            alone = [(number, name) for number, name in zip(find, other[2]) if number > many]
+            if [number for number, name in alone] != list(range(many + 1, many + 1 + len(alone))):
+                continue
+            if len(alone) == len(other[2]) or (i == j and find == tuple(range(1, many + 1))):
+                continue
+            boxes = one[2] + tuple(name for number, name in alone)
+            tied = {tie for tie in one[3] if tie[0][0] != 0}
+            for tie in other[3]:
+                if tie[0][0] != 0:
+                    tied.add(tuple(sorted((find[foot[0] - 1],) + foot[1:] for foot in tie)))
+            feet = sorts_of_feet(stock, ((), (), boxes))
+            used = list(itertools.chain(*tied))
+            if any(boxes[number - 1] != name for number, name in zip(find, other[2])) or len(used) != len(set(used)):
+                continue
+            free = sorted(foot for foot in feet if foot not in used)
+            graph = ((), tuple(feet[foot] for foot in free), boxes,
+                     ties(*tied, *[(down(0, k), foot) for k, foot in enumerate(free)]), ())
+            found.append((graph, i, tuple(range(1, many + 1)), j, find))
+    return found
+
+
+def rested_anew(stock, graph, rules):
+    row = []
+    while True:
+        steps = [(number, find) for number, rule in enumerate(rules) for find in finds_anew(graph, rule[0])]
+        if not steps:
+            return graph, tuple(row)
+        row.append(min(steps))
+        graph = done_anew(stock, graph, rules[row[-1][0]], row[-1][1])
+
+
+def rested_by_chance(stock, graph, rules, chance):
+    row = []
+    while True:
+        steps = [(number, find) for number, rule in enumerate(rules) for find in finds_anew(graph, rule[0])]
+        if not steps:
+            return graph, tuple(row)
+        row.append(chance.choice(steps))
+        graph = done_anew(stock, graph, rules[row[-1][0]], row[-1][1])

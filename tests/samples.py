@@ -163,3 +163,12 @@ def chance_inner(stock, chance, above, below, tries=40):
             return picture
     names = [box[0] for box in stock[2] if box[1:] == (above, below)]
     return (above, ((0, ("box", "dot")), (0, ("box", chance.choice(names)))))
+
+
+# Boxes for rules: with one foot each, with more, without; of one sort and of two.
+RULED = ("bent", ("a", "b"), (
+    ("f", ("a",), ("a",)), ("g", ("a",), ("a",)), ("m", ("a", "a"), ("a",)), ("w", ("a",), ("a", "a")),
+    ("u", (), ("a",)), ("e", ("a",), ()), ("x", ("a", "b"), ("b", "a")), ("dot", (), ()),
+))
+# So few boxes that rules by chance meet often.
+FEW = ("bent", ("a",), RULED[2][:1] + RULED[2][2:4])
