@@ -33,7 +33,7 @@ def find_from(graph, left, far, start):
 
 
 def is_find(graph, left, far, thing):
-    if not isinstance(thing, tuple) or len(thing) != len(left[2]):
+    if not isinstance(thing, tuple):
         return False
     if not all([is_whole(number) and 1 <= number <= len(graph[2]) for number in thing]):
         return False

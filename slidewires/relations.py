@@ -1,12 +1,16 @@
 """Pictures read as relations: a relation is a table of 1 and 0, read as what is not 0."""
 
-from slidewires.pictures import below_of
+from slidewires.pictures import below_of, boxes_of
 from slidewires.tables import read_table, size_of
 
 
 def read_relation(stock, filling, picture):
     sizes = filling[0]
-    tables = [table_of(stock, sizes, box, relation) for box, relation in zip(stock[2], filling[1])]
+    used = boxes_of(picture)
+    tables = []
+    for box, relation in zip(stock[2], filling[1]):
+        # Tables may be great: none is made that isn't looked at.
+        tables.append(table_of(stock, sizes, box, relation) if box[0] in used else ())
     table = read_table(stock, (sizes, tuple(tables)), picture)
     belows = worths_of(stock, sizes, below_of(stock, picture))
     pairs = []

@@ -18,6 +18,8 @@ SMALL = ("bent", ("a", "b", "c"), (
     ("dot", (), ()), ("new", (), ("b",)), ("gone", ("c",), ()), ("same", ("b",), ("b",)), ("f", ("a", "b"), ("c",)),
     ("wide", ("c",) * 4, ("c",) * 4),
 ))
+# Without the box that has as many pairs as may be.
+NARROW = SMALL[:2] + (SMALL[2][:-1],)
 SIZES = (1, 2, 3)
 
 
@@ -69,7 +71,7 @@ class Steps(Relations):
 
     def test_each_box(self):
         chance = random.Random(191)
-        for _ in range(20):
+        for _ in range(6):
             filling = chance_relations(SMALL, chance_sizes(SMALL, chance), chance)
             for (name, above, below), relation in zip(SMALL[2], filling[1]):
                 self.told(SMALL, filling, (above, ((0, ("box", name)),)), relation)
@@ -99,7 +101,7 @@ class Steps(Relations):
 
 
 class Whole(Relations):
-    def pictures(self, many, seed, layers=7, wires=4, stocks=(LOOSE, BENT, SMALL)):
+    def pictures(self, many, seed, layers=7, wires=4, stocks=(LOOSE, BENT, NARROW)):
         chance = random.Random(seed)
         for stock in stocks:
             done = 0
@@ -145,7 +147,7 @@ class Whole(Relations):
                 self.told(stock, filling, beside(stock, one, other), tuple(sorted(both)))
 
     def test_bent_feet(self):
-        for chance, stock, filling, picture in self.pictures(30, 195, wires=3, stocks=(BENT, SMALL)):
+        for chance, stock, filling, picture in self.pictures(30, 195, wires=3, stocks=(BENT, NARROW)):
             told = read_relation(stock, filling, picture)
             if below_of(stock, picture) and max(widths(stock, filling[0], bent_up(stock, picture))) <= 81:
                 bent = [(x + y[-1:], y[:-1]) for x, y in told]
